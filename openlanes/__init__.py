@@ -1,0 +1,1 @@
+"""Openlanes: programs that choose among open lanes, for any number of clients."""

@@ -1,0 +1,166 @@
+"""What the document says of systems, done once more in the plainest way, to compare the package with.
+
+Nothing here uses the package but `Model.made`, which makes the package's System of the same lanes and programs.
+"""
+
+from itertools import product
+
+from openlanes.lanes import Lanes
+from openlanes.programs import Program
+from openlanes.systems import System
+
+WORDS = ("close", "ended", "send", "take")
+
+
+def arm_result(state, bound, word):
+    """The state behind an arm with a lane, or None if the arm is not open."""
+    count, closed = state
+    if word == "send":
+        return (count + 1, closed) if not closed and count < bound else None
+    if word == "take":
+        return (count - 1, closed) if count > 0 else None
+    if word == "ended":
+        return (count, closed) if closed and count == 0 else None
+    return (count, True) if not closed else None
+
+
+def is_over(one, other):
+    return one[0] == other[0] and one[1] == other[1] and all(a >= b for a, b in zip(one[2], other[2]))
+
+
+def lowest(standings):
+    """The least ones of all standings that are passed, by comparing each with each."""
+    found = sorted(set(standings))
+    return [x for x in found if not any(x != y and is_over(x, y) for y in found)]
+
+
+class Model:
+    """bounds: dict from names to bounds; server: list of places; kinds: dict from kinds to lists of places."""
+
+    def __init__(self, bounds, server, kinds):
+        self.bounds = bounds
+        self.server = server
+        self.kinds = kinds
+        self.names = sorted(bounds)
+        self.seats = [(kind, place) for kind in sorted(kinds) for place in range(1, len(kinds[kind]))]
+
+    def made(self):
+        kinds = {kind: Program(self.kinds[kind]) for kind in self.kinds}
+        return System(Lanes(self.bounds), Program(self.server), kinds)
+
+    def contents(self):
+        rows = [[(n, closed) for n in range(self.bounds[name] + 1) for closed in (False, True)] for name in self.names]
+        return sorted(product(*rows))
+
+    def moves(self, places, place, content):
+        """The list of (index, to, content behind) that the place may do."""
+        mode, arms = places[place]
+        found = []
+        for index, arm in enumerate(arms):
+            if arm[0] != "else":
+                spot = self.names.index(arm[1])
+                state = arm_result(content[spot], self.bounds[arm[1]], arm[0])
+                if state is not None:
+                    found.append((index, arm[2], content[:spot] + (state,) + content[spot + 1:]))
+        if not found:
+            found = [(index, arm[1], content) for index, arm in enumerate(arms) if arm[0] == "else"]
+        return found if mode == "any" else found[:1]
+
+    def steps(self, standing, held=False):
+        """The ascending list of (step, standing behind it)."""
+        place, content, counts = standing
+        found = []
+        if not held:
+            for index, to, behind in self.moves(self.server, place, content):
+                found.append((("", place, index), (to, behind, counts)))
+        for kind in sorted(self.kinds):
+            for start in range(len(self.kinds[kind])):
+                if start and not counts[self.seats.index((kind, start))]:
+                    continue
+                for index, to, behind in self.moves(self.kinds[kind], start, content):
+                    after = list(counts)
+                    if start:
+                        after[self.seats.index((kind, start))] -= 1
+                    if to:
+                        after[self.seats.index((kind, to))] += 1
+                    found.append(((kind, start, index), (place, behind, tuple(after))))
+        return found
+
+    def box(self, most):
+        """All standings with counts up to most."""
+        rows = product(range(len(self.server)), self.contents(), product(range(most + 1), repeat=len(self.seats)))
+        return list(rows)
+
+    def before(self, standing, held=False):
+        """The least standings one step ahead of a standing, found among all whose counts are great enough."""
+        most = max([0, *standing[2]]) + 1
+        return lowest([x for x in self.box(most) if any(is_over(y, standing) for _, y in self.steps(x, held))])
+
+    def fewest(self, standing, wished, most, held=False):
+        """The fewest steps, at most so many, that lead from the standing to wished ones, or None."""
+        seen = {standing}
+        row = [standing]
+        for k in range(most + 1):
+            if any(is_over(x, y) for x in row for y in wished):
+                return k
+            row = sorted({y for x in row for _, y in self.steps(x, held)} - seen)
+            seen.update(row)
+        return None
+
+    def layers(self, wished, most, held=False):
+        """The layers within a box of counts up to most, until nothing more comes: a list of sets of standings.
+
+        They are right as long as no least standing of a layer has a count of most: then clients beyond it are as many
+        as most of them.
+        """
+        box = self.box(most)
+        behind = {x: [(y[0], y[1], tuple(min(n, most) for n in y[2])) for _, y in self.steps(x, held)] for x in box}
+        layer = {x for x in box if any(is_over(x, y) for y in wished)}
+        found = [layer]
+        while True:
+            more = layer | {x for x in box if any(y in layer for y in behind[x])}
+            if more == layer:
+                return found
+            found.append(more)
+            layer = more
+
+    def is_bar(self, wished, standing, bars, held=False):
+        """Whether the list of standings bars the standing from wished ones."""
+        if any(is_over(standing, y) for y in bars):
+            return False
+        if not all(any(is_over(x, y) for y in bars) for x in wished):
+            return False
+        most = max([0] + [n for y in bars for n in y[2]]) + 1
+        for x in self.box(most):
+            if not any(is_over(x, y) for y in bars):
+                if any(is_over(z, y) for _, z in self.steps(x, held) for y in bars):
+                    return False
+        return True
+
+
+def some_places(chance, names, size, arms):
+    """Places of a program, taken by a chance (random.Random)."""
+    found = []
+    for _ in range(size):
+        row = []
+        for _ in range(chance.randint(0, arms)):
+            row.append((chance.choice(WORDS + ("send", "take")), chance.choice(names), chance.randrange(size)))
+        if chance.random() < 0.4:
+            row.insert(chance.randint(0, len(row)), ("else", chance.randrange(size)))
+        found.append((chance.choice(["first", "any"]), tuple(row)))
+    return found
+
+
+def some_model(chance):
+    """A small Model with at most two seats."""
+    bounds = chance.choice([{"a": 1}, {"a": 2}, {"b": 1, "a": 1}, {"a": 1, "b": 2}])
+    names = sorted(bounds)
+    sizes = chance.choice([[], [1], [2], [2], [3], [3], [2, 2], [1, 2]])
+    kinds = {"kl"[k]: some_places(chance, names, size, 3) for k, size in enumerate(sizes)}
+    return Model(bounds, some_places(chance, names, chance.randint(1, 3), 3), kinds)
+
+
+def some_standing(chance, model, most):
+    """A standing of the model with counts up to most."""
+    counts = tuple(chance.choice([0, 0, chance.randint(0, most)]) for _ in model.seats)
+    return (chance.randrange(len(model.server)), chance.choice(model.contents()), counts)
