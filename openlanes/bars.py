@@ -7,7 +7,7 @@ from openlanes.packing import packed, packing_for
 def is_above_one(packing, spots, standing):
     """Whether the standing is above one of those packed in spots."""
     place, content, counts = standing
-    return packing.is_covered(packing.pack(counts), spots.get((place, content), {}))
+    return packing.covers_one(packing.pack(counts), spots.get((place, content), {}))
 
 
 def is_closed(packing, spots, backs):
@@ -15,7 +15,7 @@ def is_closed(packing, spots, backs):
     for spot in spots:
         for number in spots[spot]:
             for former, start, goal, _ in backs.into(spot):
-                if not packing.is_covered(packing.ahead(number, start, goal), spots.get(former, {})):
+                if not packing.covers_one(packing.ahead(number, start, goal), spots.get(former, {})):
                     return False
     return True
 

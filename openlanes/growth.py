@@ -51,11 +51,11 @@ class Growth:
             numbers = found[spot]
             tried = self._tried.setdefault(spot, {})
             lows = self._lows.setdefault(spot, {})
-            # In ascending order no number is covered by one that comes behind it.
+            # In ascending order no number covers one that comes behind it.
             for number in sorted(numbers):
                 if number not in tried:
                     tried[number] = True
-                    if not self._packing.is_covered(number, lows):
+                    if not self._packing.covers_one(number, lows):
                         fresh.append(self._marked(spot, number, rank, numbers[number]))
         return fresh
 

@@ -33,7 +33,7 @@ class Packing:
         """Whether no count of high is less than that of low."""
         return ((high | self._guards) - low) & self._guards == self._guards
 
-    def is_covered(self, number, lows):
+    def covers_one(self, number, lows):
         """Whether the number covers one of lows, a dict with numbers as its keys."""
         if number in lows:
             return True
@@ -54,7 +54,7 @@ class Packing:
         kept = {}
         for number in sorted(numbers):
             # What a number covers is less than it, and so it is looked at before it.
-            if not self.is_covered(number, kept):
+            if not self.covers_one(number, kept):
                 kept[number] = True
         return kept
 
