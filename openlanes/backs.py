@@ -19,13 +19,14 @@ class Backs:
     """The steps that lead into spots, tuples (place, content); what was found out once is kept.
 
     A way into a spot is a tuple (spot, start, goal, step): a step that is made at the former spot by a client whose
-    count at start gets one less and whose count at goal one more; these are indexes of seats, None for place 0 and
-    for steps of the server.
+    count at start gets one less and whose count at goal one more; these are indexes in counted, the tuples
+    (kind, place) whose clients are counted, None for other places and for steps of the server.
     """
 
-    def __init__(self, system, held):
+    def __init__(self, system, held, counted):
         self._system = system
         self._held = held
+        self._counted = {seat: index for index, seat in enumerate(counted)}
         self._servers = {}
         self._clients = {}
         self._ways = {}
@@ -60,14 +61,8 @@ class Backs:
         if content not in self._clients:
             kinds = self._system.kinds()
             self._clients[content] = [
-                (ahead, self._seat(kind, place), self._seat(kind, to), (kind, place, index))
+                (ahead, self._counted.get((kind, place)), self._counted.get((kind, to)), (kind, place, index))
                 for kind in sorted(kinds)
                 for place, index, to, ahead in arms_into(self._system.lanes, kinds[kind], content)
             ]
         return self._clients[content]
-
-    def _seat(self, kind, place):
-        """The index of the seat, or None for place 0, where nobody is counted."""
-        if place == 0:
-            return None
-        return self._system.seat(kind, place)

@@ -24,10 +24,10 @@ def is_bar(system, wished, standing, thing, *, held=False):
     """Whether thing, any value, is a list of standings that bars the standing from wished ones."""
     if not isinstance(thing, list) or not all([system.is_standing(part) for part in thing]):
         return False
-    packing = packing_for(system, [standing, *wished, *thing])
+    packing = packing_for(system.seats, [standing, *wished, *thing])
     spots = packed(packing, thing)
     if is_above_one(packing, spots, standing):
         return False
     if not all([is_above_one(packing, spots, wish) for wish in wished]):
         return False
-    return is_closed(packing, spots, Backs(system, held))
+    return is_closed(packing, spots, Backs(system, held, system.seats))

@@ -70,10 +70,10 @@ class Packing:
         return number
 
 
-def packing_for(system, standings):
-    """The Packing for standings of the system with counts like those."""
+def packing_for(counted, standings):
+    """The Packing for standings with a count for each of counted, and with counts like those."""
     greatest = max([0] + [count for standing in standings for count in standing[2]])
-    return Packing(len(system.seats), greatest)
+    return Packing(len(counted), greatest)
 
 
 def packed(packing, standings):

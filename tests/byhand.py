@@ -42,7 +42,8 @@ class Model:
         self.server = server
         self.kinds = kinds
         self.names = sorted(bounds)
-        self.seats = [(kind, place) for kind in sorted(kinds) for place in range(1, len(kinds[kind]))]
+        self.everywhere = [(kind, place) for kind in sorted(kinds) for place in range(len(kinds[kind]))]
+        self.seats = [(kind, place) for kind, place in self.everywhere if place]
 
     def made(self):
         kinds = {kind: Program(self.kinds[kind]) for kind in self.kinds}
@@ -107,6 +108,79 @@ class Model:
             seen.update(row)
         return None
 
+    def fixed_steps(self, state, held=False):
+        """The ascending list of (step, state behind it) if nobody comes but those who are at a place 0.
+
+        A state is (place, content, row), where row has a count for each place of each kind, place 0 included.
+        """
+        place, content, row = state
+        found = []
+        if not held:
+            for index, to, behind in self.moves(self.server, place, content):
+                found.append((("", place, index), (to, behind, row)))
+        for (kind, start), count in zip(self.everywhere, row):
+            for index, to, behind in self.moves(self.kinds[kind], start, content) if count else []:
+                after = list(row)
+                after[self.everywhere.index((kind, start))] -= 1
+                after[self.everywhere.index((kind, to))] += 1
+                found.append(((kind, start, index), (place, behind, tuple(after))))
+        return found
+
+    def row_of(self, crowd, counts=None):
+        """The row with the clients of the crowd at the places 0, and so many clients at seats."""
+        many = dict(zip(sorted(self.kinds), crowd))
+        at = dict(zip(self.seats, counts or ()))
+        return tuple(at.get((kind, place), 0) if place else many[kind] for kind, place in self.everywhere)
+
+    def fixed_states(self, crowd, start=None, held=False):
+        """The dict from the states that come with just these clients to the fewest steps that lead there.
+
+        start is the standing to begin with; its clients at seats are there beside the crowd.
+        """
+        place, content, counts = start or (0, self.contents()[0], None)
+        first = (place, content, self.row_of(crowd, counts))
+        found = {first: 0}
+        row = [first]
+        while row:
+            further = []
+            for state in row:
+                for _, behind in self.fixed_steps(state, held):
+                    if behind not in found:
+                        found[behind] = found[state] + 1
+                        further.append(behind)
+            row = further
+        return found
+
+    def standing_of(self, state):
+        """The standing of a state: who is at a place 0 is left out."""
+        return (*state[:2], tuple(n for (_, place), n in zip(self.everywhere, state[2]) if place))
+
+    def fixed_fewest(self, wished, states):
+        """The fewest steps to wished standings among the states that fixed_states told, or None."""
+        told = [states[x] for x in states if any(is_over(self.standing_of(x), y) for y in wished)]
+        return min(told, default=None)
+
+    def shifted(self):
+        """A Model in which each kind has a place 0 without arms ahead of its places, so that all are counted."""
+        def behind(arm):
+            return (*arm[:-1], arm[-1] + 1)
+        kinds = {kind: [("any", ())] + [(mode, tuple(behind(arm) for arm in arms)) for mode, arms in self.kinds[kind]]
+                 for kind in self.kinds}
+        return Model(self.bounds, self.server, kinds)
+
+    def turned(self):
+        """The same Model, the keys of its dicts in the contrary order."""
+        return Model({name: self.bounds[name] for name in reversed(list(self.bounds))}, self.server,
+                     {kind: self.kinds[kind] for kind in reversed(list(self.kinds))})
+
+    def renamed(self, new):
+        """The Model with other names of lanes and kinds; new is the dict from all old ones to new ones."""
+        def places(old):
+            return [(mode, tuple(arm if arm[0] == "else" else (arm[0], new[arm[1]], arm[2]) for arm in arms))
+                    for mode, arms in old]
+        return Model({new[name]: self.bounds[name] for name in self.bounds}, places(self.server),
+                     {new[kind]: places(self.kinds[kind]) for kind in self.kinds})
+
     def layers(self, wished, most, held=False):
         """The layers within a box of counts up to most, until nothing more comes: a list of sets of standings.
 
@@ -158,6 +232,11 @@ def some_model(chance):
     sizes = chance.choice([[], [1], [2], [2], [3], [3], [2, 2], [1, 2]])
     kinds = {"kl"[k]: some_places(chance, names, size, 3) for k, size in enumerate(sizes)}
     return Model(bounds, some_places(chance, names, chance.randint(1, 3), 3), kinds)
+
+
+def some_wished(chance, model):
+    """Up to three standings of the model."""
+    return [some_standing(chance, model, chance.choice([1, 2])) for _ in range(chance.randint(1, 3))]
 
 
 def some_standing(chance, model, most):

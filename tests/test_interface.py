@@ -15,6 +15,18 @@ FUNCTIONS = {
     },
     "least": {"least": "(system, standings)", "before": "(system, standing, *, held=False)"},
     "bars": {"is_bar": "(system, wished, standing, thing, *, held=False)"},
+    "ways": {
+        "can_come": "(system, wished, *, most=2000)", "way": "(system, wished, *, most=2000)",
+        "bar": "(system, wished, *, most=2000)",
+    },
+    "crowds": {
+        "needed": "(system, steps)", "suffices": "(system, wished, crowd, *, most=2000)",
+        "way_of": "(system, wished, crowd, *, most=2000)", "least_crowds": "(system, wished, *, most=2000)",
+    },
+    "together": {"together": "(system, kind, place, *, limit=3, most=2000)"},
+    "stuck": {
+        "freeing": "(system, place, content, *, most=2000)", "stuck": "(system, *, most=2000)",
+    },
 }
 
 CLASSES = {

@@ -10,8 +10,8 @@ from openlanes.lanes import Lanes
 from openlanes.layers import Layers
 from openlanes.programs import Program
 from openlanes.systems import System
-from tests.byhand import Model, is_over, lowest, some_model, some_standing
-from tests.helpers import check_error
+from tests.byhand import Model, is_over, lowest, some_model, some_standing, some_wished
+from tests.helpers import NEW, check_error, sizes
 from tests.samples import ALONE, JOBS, PAIRS, WAITING, jobs
 
 # A client needs another one behind it for each step that it makes forward; so the layers get greater, then smaller.
@@ -22,20 +22,12 @@ CHAIN = Model(
 )
 
 
-def sizes(layers):
-    return [len(layers.layer(k)) for k in range(layers.last + 1)]
-
-
 def greatest_count(layers):
     return max([0] + [n for k in range(layers.last + 1) for standing in layers.layer(k) for n in standing[2]])
 
 
 def all_of(layers):
     return [layers.layer(k) for k in range(layers.last + 2)]
-
-
-def some_wished(chance, model):
-    return [some_standing(chance, model, chance.choice([1, 2])) for _ in range(chance.randint(1, 3))]
 
 
 class AgainstTheBoxTest(unittest.TestCase):
@@ -323,12 +315,8 @@ class KeptTest(unittest.TestCase):
         for seed in range(40):
             chance = random.Random(seed)
             model = some_model(chance)
-            turned = Model(
-                {name: model.bounds[name] for name in reversed(list(model.bounds))}, model.server,
-                {kind: model.kinds[kind] for kind in reversed(list(model.kinds))},
-            )
             wished = some_wished(chance, model)
-            one, other = Layers(model.made(), wished), Layers(turned.made(), copy.deepcopy(wished))
+            one, other = Layers(model.made(), wished), Layers(model.turned().made(), copy.deepcopy(wished))
             for standing in [some_standing(chance, model, 3) for _ in range(10)]:
                 self.assertEqual(one.way(standing), other.way(standing))
             self.assertEqual(all_of(one), all_of(other))
@@ -347,21 +335,14 @@ class KeptTest(unittest.TestCase):
 
 class NamesTest(unittest.TestCase):
     def test_renamed_in_the_same_order_all_is_the_same(self):
-        new = {"a": "bb", "b": "bbb", "k": "x", "l": "xa", "": ""}
-
-        def renamed(places):
-            return [(mode, [arm if len(arm) == 2 else (arm[0], new[arm[1]], arm[2]) for arm in arms])
-                    for mode, arms in places]
         for seed in range(30):
             chance = random.Random(seed)
             model = some_model(chance)
-            other = Model({new[name]: model.bounds[name] for name in model.bounds}, renamed(model.server),
-                          {new[kind]: renamed(model.kinds[kind]) for kind in model.kinds})
             wished = some_wished(chance, model)
-            one, two = Layers(model.made(), wished), Layers(other.made(), wished)
+            one, two = Layers(model.made(), wished), Layers(model.renamed(NEW).made(), wished)
             self.assertEqual(all_of(one), all_of(two))
             for standing in one.layer(one.last):
-                way = [(new[who], place, index) for who, place, index in one.way(standing)]
+                way = [(NEW[who], place, index) for who, place, index in one.way(standing)]
                 self.assertEqual(two.way(standing), way)
 
 
