@@ -59,7 +59,7 @@ def suffices(system, wished, crowd, *, most=2000):
 def way_of(system, wished, crowd, *, most=2000):
     """A shortest run from the first standing to wished ones that needs no more than the crowd, or None."""
     growth = crowd_growth(system, wished, most)
-    return growth.way(system.first[:2], at_first(system, crowd))
+    return growth.steps_from(system.first[:2], at_first(system, crowd))
 
 
 def least_crowds(system, wished, *, most=2000):
@@ -67,7 +67,7 @@ def least_crowds(system, wished, *, most=2000):
     growth = crowd_growth(system, wished, most)
     seats = all_places(system)
     found = []
-    for spot, counts in growth.layer(growth.depth):
+    for spot, counts in growth.least_of(growth.depth):
         if spot == system.first[:2]:
             crowd = tuple([count for seat, count in zip(seats, counts) if seat[1] == 0])
             if counts == at_first(system, crowd):

@@ -36,7 +36,7 @@ class Growth:
             # What leads into older marks is in this layer already.
             fresh = self._put(rank, self._ahead_of(fresh))
 
-    def mark(self, spot, counts):
+    def first_mark(self, spot, counts):
         """The first mark of the spot, and so one of the least rank, whose number the counts cover, or None."""
         number = self._packing.pack(counts)
         for mark in self._marks.get(spot, []):
@@ -44,13 +44,13 @@ class Growth:
                 return mark
         return None
 
-    def rank(self, mark):
+    def rank_of(self, mark):
         """The first layer that has the number of the mark."""
         return self._entries[mark][2]
 
-    def way(self, spot, counts):
+    def steps_from(self, spot, counts):
         """The list of the steps of a shortest way from the counts at the spot to the layer 0, or None."""
-        mark = self.mark(spot, counts)
+        mark = self.first_mark(spot, counts)
         if mark is None:
             return None
         steps = []
@@ -59,7 +59,7 @@ class Growth:
             steps.append(step)
         return steps
 
-    def layer(self, k):
+    def least_of(self, k):
         """The list of the tuples (spot, counts) of the least numbers of a layer."""
         found = []
         for mark, (spot, number, rank, _, _) in enumerate(self._entries):

@@ -16,7 +16,7 @@ class Layers:
         self._lowest = self.layer(self._last)
 
     def __contains__(self, standing):
-        return self._growth.mark(standing[:2], standing[2]) is not None
+        return self._growth.first_mark(standing[:2], standing[2]) is not None
 
     def __len__(self):
         return len(self._lowest)
@@ -28,15 +28,15 @@ class Layers:
 
     def layer(self, k):
         """The ascending list of the least standings of a layer."""
-        return sorted([(spot[0], spot[1], counts) for spot, counts in self._growth.layer(k)])
+        return sorted([(spot[0], spot[1], counts) for spot, counts in self._growth.least_of(k)])
 
     def rank(self, standing):
         """The least k such that the standing is in the layer k, or None."""
-        mark = self._growth.mark(standing[:2], standing[2])
+        mark = self._growth.first_mark(standing[:2], standing[2])
         if mark is None:
             return None
-        return self._growth.rank(mark)
+        return self._growth.rank_of(mark)
 
     def way(self, standing):
         """A shortest run from the standing that leads to wished ones, or None."""
-        return self._growth.way(standing[:2], standing[2])
+        return self._growth.steps_from(standing[:2], standing[2])

@@ -1,7 +1,6 @@
 """What one program may do at a place and a content."""
 
-from openlanes.errors import NoArm, NoLane, Refused
-from openlanes.kinds import is_number
+from openlanes.errors import NoLane, Refused
 from openlanes.programs import is_else
 
 
@@ -13,11 +12,17 @@ def check_lanes(lanes, programs):
             raise NoLane(name)
 
 
-def allowed(lanes, mode, arms, content):
-    """The ascending list of the indexes of the arms that a place with this mode and these arms may take."""
+def open_arms(lanes, arms, content):
+    """The ascending list of the indexes of those of a place's arms that are open."""
     indexes = [index for index, arm in enumerate(arms) if not is_else(arm) and lanes.is_open(content, arm[0], arm[1])]
     if not indexes:
         indexes = [index for index, arm in enumerate(arms) if is_else(arm)]
+    return indexes
+
+
+def allowed(lanes, mode, arms, content):
+    """The ascending list of the indexes of the arms that a place with this mode and these arms may take."""
+    indexes = open_arms(lanes, arms, content)
     if mode == "first":
         return indexes[:1]
     return indexes
@@ -44,9 +49,7 @@ def choices(lanes, program, place, content):
 def moved(lanes, program, place, content, index):
     """The tuple (place, content) behind the arm of this index."""
     check_lanes(lanes, [program])
-    arms = program.arms(place)
-    if not is_number(index) or index >= len(arms):
-        raise NoArm(index)
-    if index not in allowed(lanes, program.mode(place), arms, content):
+    arm = program.arm(place, index)
+    if index not in allowed_at(lanes, program, place, content):
         raise Refused(index)
-    return behind_arm(lanes, arms[index], content)
+    return behind_arm(lanes, arm, content)

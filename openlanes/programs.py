@@ -75,6 +75,10 @@ class Program:
         """The list of the arms of a place."""
         return list(self._place(place)[1])
 
+    def arm(self, place, index):
+        """The arm of this index of a place."""
+        return self._place_with_arm(place, index)[1][index]
+
     def used(self):
         """The ascending list of the names of lanes that stand in arms."""
         return list(self._used)

@@ -19,12 +19,22 @@ class Reach:
         growth = Growth(packing, self._backs)
         growth.grow(packed(packing, wished), self._most)
         first = self._system.first
-        return growth.mark(first[:2], first[2]) is not None
+        return growth.first_mark(first[:2], first[2]) is not None
 
 
 def bare(system, place, content):
     """The standing with nobody at a seat."""
     return system.at(place, content, {})
+
+
+def alone(system, who, place, contents):
+    """The standings with one of these contents in which who is at this place, and nobody else at a seat."""
+    if who == "":
+        return [bare(system, place, content) for content in contents]
+    crowd = {}
+    if place > 0:
+        crowd = {(who, place): 1}
+    return [system.at(at, content, crowd) for at in range(system.server.size) for content in contents]
 
 
 def spots_of(system):

@@ -67,6 +67,18 @@ class Model:
             found = [(index, arm[1], content) for index, arm in enumerate(arms) if arm[0] == "else"]
         return found if mode == "any" else found[:1]
 
+    def is_open(self, places, place, index, content):
+        """Whether the arm is open, if the place may take it or not."""
+        return index in [move[0] for move in self.moves([("any", arms) for _, arms in places], place, content)]
+
+    def round_steps(self, standing, home, index):
+        """The list of (step, standing behind it) that a round for the arm of the server's place home may have."""
+        content = standing[1]
+        return [
+            (step, behind) for step, behind in self.steps(standing)
+            if step[:2] != ("", home) or (step[2] != index and self.is_open(self.server, home, index, content))
+        ]
+
     def steps(self, standing, held=False):
         """The ascending list of (step, standing behind it)."""
         place, content, counts = standing
@@ -198,6 +210,51 @@ class Model:
             found.append(more)
             layer = more
 
+    def is_round(self, standing, index, steps):
+        """Whether a list of tuples is a round from the standing for the arm of the server's place."""
+        now, home = standing, standing[0]
+        if not self.is_open(self.server, home, index, standing[1]):
+            return False
+        for step in steps:
+            behind = [y for x, y in self.round_steps(now, home, index) if x == step]
+            if not behind:
+                return False
+            now = behind[0]
+        return is_over(now, standing) and any(step[0] == "" for step in steps)
+
+    def fewest_round(self, standing, index, most):
+        """The fewest steps, at most so many, of a round from the standing, or None."""
+        if not self.is_open(self.server, standing[0], index, standing[1]):
+            return None
+        seen = {(standing, False)}
+        row = [(standing, False)]
+        for k in range(most + 1):
+            if any(moved and is_over(x, standing) for x, moved in row):
+                return k
+            further = set()
+            for x, moved in row:
+                for step, y in self.round_steps(x, standing[0], index):
+                    further.add((y, moved or step[0] == ""))
+            row = sorted(further - seen)
+            seen.update(row)
+        return None
+
+    def round_layers(self, standing, index, most):
+        """As layers: the sets of the tuples (standing, moved) from which at most k steps go on as a round does."""
+        box = self.box(most)
+        behind = {(x, moved): [
+            ((y[0], y[1], tuple(min(n, most) for n in y[2])), moved or step[0] == "")
+            for step, y in self.round_steps(x, standing[0], index)
+        ] for x in box for moved in (False, True)}
+        layer = {(x, True) for x in box if is_over(x, standing)}
+        found = [layer]
+        while True:
+            more = layer | {x for x in behind if any(y in layer for y in behind[x])}
+            if more == layer:
+                return found
+            found.append(more)
+            layer = more
+
     def is_bar(self, wished, standing, bars, held=False):
         """Whether the list of standings bars the standing from wished ones."""
         if any(is_over(standing, y) for y in bars):
@@ -212,13 +269,13 @@ class Model:
         return True
 
 
-def some_places(chance, names, size, arms):
+def some_places(chance, names, size, arms, words=WORDS + ("send", "take")):
     """Places of a program, taken by a chance (random.Random)."""
     found = []
     for _ in range(size):
         row = []
         for _ in range(chance.randint(0, arms)):
-            row.append((chance.choice(WORDS + ("send", "take")), chance.choice(names), chance.randrange(size)))
+            row.append((chance.choice(words), chance.choice(names), chance.randrange(size)))
         if chance.random() < 0.4:
             row.insert(chance.randint(0, len(row)), ("else", chance.randrange(size)))
         found.append((chance.choice(["first", "any"]), tuple(row)))
@@ -232,6 +289,17 @@ def some_model(chance):
     sizes = chance.choice([[], [1], [2], [2], [3], [3], [2, 2], [1, 2]])
     kinds = {"kl"[k]: some_places(chance, names, size, 3) for k, size in enumerate(sizes)}
     return Model(bounds, some_places(chance, names, chance.randint(1, 3), 3), kinds)
+
+
+def some_lively_model(chance):
+    """A small Model with at most one seat whose programs close nothing and mostly have several arms."""
+    bounds = chance.choice([{"a": 1}, {"a": 2}, {"b": 1, "a": 1}])
+    names, words = sorted(bounds), ("send", "take", "take", "send", "ended")
+    size = chance.randint(1, 3)
+    server = [(mode, arms or (("take", names[0], 0), ("send", names[-1], size - 1)))
+              for mode, arms in some_places(chance, names, size, 4, words)]
+    kinds = {} if chance.random() < 0.2 else {"k": some_places(chance, names, chance.randint(1, 2), 4, words)}
+    return Model(bounds, server, kinds)
 
 
 def some_wished(chance, model):

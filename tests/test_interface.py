@@ -27,6 +27,14 @@ FUNCTIONS = {
     "stuck": {
         "freeing": "(system, place, content, *, most=2000)", "stuck": "(system, *, most=2000)",
     },
+    "caught": {"caught": "(system, kind, place, *, most=2000)"},
+    "rounds": {
+        "is_round": "(system, standing, index, thing)", "round_from": "(system, standing, index, *, most=2000)",
+        "starving": "(system, place, index, *, stay=0, most=2000)",
+    },
+    "faults": {"faults": "(system, *, most=2000)"},
+    "taken": {"never_taken": "(system, *, most=2000)"},
+    "bounds": {"safe_bounds": "(names, server, kinds, greatest, *, most=2000)"},
 }
 
 CLASSES = {
