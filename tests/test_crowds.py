@@ -165,6 +165,13 @@ class AgainstRunsTest(unittest.TestCase):
         wished = [(1, ((0, False), (0, False)), (0, 0, 0))]
         self.assertEqual(self.compare(INSTEAD, wished, 3), [(1, 1), (2, 0)])
 
+    def test_the_crowd_that_is_quicker_may_be_the_greater_one(self):
+        model = Model({"a": 2}, [("any", (("take", "a", 1),)), ("any", ())], {
+            "k": [("any", (("else", 1),)), ("any", (("send", "a", 0),))], "l": [("any", (("send", "a", 0),))]})
+        self.assertEqual(self.compare(model, [(1, ((0, False),), (0,))], 2), [(0, 1), (1, 0)])
+        turned = Model(model.bounds, model.server, {"k": model.kinds["l"], "l": model.kinds["k"]})
+        self.assertEqual(self.compare(turned, [(1, ((0, False),), (0,))], 2), [(0, 1), (1, 0)])
+
     def test_the_way_of_few_is_longer(self):
         model = Model({"a": 1}, [("any", (("take", "a", 1),)), ("any", (("take", "a", 2),)), ("any", ())],
                       {"k": [("any", (("send", "a", 1),)), ("any", (("else", 0),))]})
