@@ -57,7 +57,7 @@ class Lanes:
         return len(self._names)
 
     def __contains__(self, thing):
-        return is_name(thing) and thing in self._spots
+        return isinstance(thing, str) and thing in self._spots
 
     @property
     def names(self):

@@ -5,6 +5,7 @@ from openlanes.growth import Growth
 from openlanes.moves import open_arms
 from openlanes.packing import packing_for
 from openlanes.reach import Reach
+from openlanes.states import replaced
 
 
 class Passing:
@@ -100,9 +101,10 @@ def round_from(system, standing, index, *, most=2000):
 
 def spread(many, seats):
     """The ascending list of the tuples with a count for each seat that make so many together."""
-    if seats == 0:
-        return [()] if many == 0 else []
-    return [(count, *rest) for count in range(many + 1) for rest in spread(many - count, seats - 1)]
+    found = [(0,) * seats]
+    for _ in range(many):
+        found = sorted({replaced(row, spot, row[spot] + 1) for row in found for spot in range(seats)})
+    return found
 
 
 def with_few(system, place, contents, stay):

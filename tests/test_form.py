@@ -17,11 +17,13 @@ NODES = (
     ast.If, ast.While, ast.For, ast.Return, ast.Break, ast.Continue, ast.Pass, ast.Raise, ast.Delete, ast.Name,
     ast.Constant, ast.Tuple, ast.List, ast.Dict, ast.ListComp, ast.DictComp, ast.comprehension, ast.Call, ast.Attribute,
     ast.Subscript, ast.Slice, ast.Starred, ast.BinOp, ast.BoolOp, ast.UnaryOp, ast.Compare, ast.IfExp, ast.keyword,
-    ast.expr_context, ast.operator, ast.boolop, ast.unaryop, ast.cmpop,
+    ast.expr_context, ast.operator, ast.boolop, ast.unaryop, ast.cmpop, ast.SetComp, ast.JoinedStr, ast.FormattedValue,
+    ast.Try, ast.ExceptHandler,
 )
 BARRED_NODES = (ast.Div, ast.MatMult, ast.Pow)
-SPECIAL = {"__init__", "__eq__", "__len__", "__contains__"}
-VALUE_METHODS = {"append", "extend", "get", "setdefault", "items", "values", "keys", "bit_length"}
+SPECIAL = {"__init__", "__eq__", "__len__", "__contains__", "__call__"}
+VALUE_METHODS = {"append", "extend", "get", "setdefault", "items", "values", "keys", "bit_length", "join", "split",
+                 "startswith", "zfill"}
 BARRED_NAMES = set(
     "register mro elements open input law version_info with_traceback add_note attrgetter breakpoint builtins compile "
     "copyright credits delattr dir eval exec exit gc getattr globals hasattr help id importlib license locals "
@@ -39,10 +41,13 @@ def files():
     return sorted(FOLDER.glob("*.py"))
 
 
-def plain(node):
-    """Whether the node is a plain value at module level."""
+def plain(node, known=()):
+    """Whether the node is a plain value at module level; known are the functions that it may name in a dict."""
     if isinstance(node, (ast.List, ast.Tuple)):
         return all(plain(part) for part in node.elts)
+    if isinstance(node, ast.Dict):
+        worths = [row for row in node.values if not (isinstance(row, ast.Name) and row.id in known)]
+        return all(plain(part) for part in node.keys + worths)
     if isinstance(node, ast.UnaryOp):
         return isinstance(node.op, ast.USub) and plain(node.operand)
     return isinstance(node, ast.Constant)
@@ -103,6 +108,7 @@ class FormTest(unittest.TestCase):
     def test_module_level(self):
         for stem, tree in self.trees.items():
             imports = True
+            known = []
             for place, node in enumerate(tree.body):
                 if isinstance(node, ast.Expr):
                     self.assertTrue(place == 0 and isinstance(node.value.value, str), stem)
@@ -110,9 +116,10 @@ class FormTest(unittest.TestCase):
                     self.assertTrue(imports, stem)
                 elif isinstance(node, ast.Assign):
                     self.assertTrue(len(node.targets) == 1 and isinstance(node.targets[0], ast.Name), stem)
-                    self.assertTrue(plain(node.value), stem)
+                    self.assertTrue(plain(node.value, known), stem)
                 else:
                     self.assertIsInstance(node, (ast.FunctionDef, ast.ClassDef))
+                    known += [node.name] if isinstance(node, ast.FunctionDef) else []
                 imports = imports and isinstance(node, (ast.Expr, ast.ImportFrom))
             bound = [node.name for node in tree.body if isinstance(node, (ast.FunctionDef, ast.ClassDef))]
             bound += [node.targets[0].id for node in tree.body if isinstance(node, ast.Assign)] + imported(tree)
@@ -175,7 +182,10 @@ class FormTest(unittest.TestCase):
         own = {row.name for rows in self.methods.values() for row in rows}
         attributes = {name for names in self.attributes.values() for name in names}
         properties = {row.name for rows in self.methods.values() for row in rows if row.decorator_list}
-        for name in (own - SPECIAL) | (attributes - {"index"}):
+        values = {row.targets[0].id for _, c in self.nodes if isinstance(c, ast.ClassDef) for row in c.body
+                  if isinstance(row, ast.Assign) and isinstance(row.value, ast.Constant)}
+        self.assertEqual(values & (own | attributes), set())
+        for name in (own - SPECIAL) | (attributes - {"index"}) | values:
             self.assertNotRegex(name, BARRED_STARTS)
             self.assertFalse(any(hasattr(value, name) for value in VALUES), name)
         for name in own:
@@ -185,7 +195,7 @@ class FormTest(unittest.TestCase):
             self.assertEqual(len(rows), len({row.name for row in rows}))
         for stem, node in self.nodes:
             if isinstance(node, ast.Attribute) and isinstance(node.ctx, ast.Load):
-                self.assertIn(node.attr, own | attributes | VALUE_METHODS, stem)
+                self.assertIn(node.attr, own | attributes | values | VALUE_METHODS, stem)
             if isinstance(node, ast.Attribute) and isinstance(node.ctx, ast.Store):
                 self.assertNotIn(node.attr, properties)
             if isinstance(node, ast.Call) and isinstance(node.func, ast.Attribute):
@@ -200,6 +210,10 @@ class FormTest(unittest.TestCase):
             over = {id(node.iter) for node in ast.walk(tree) if isinstance(node, (ast.For, ast.comprehension))}
             at_once = ("list", "tuple", "sorted", "sum", "len")
             inside = {id(part) for node in plain_calls if node.func.id in at_once for part in node.args}
+            inside |= {id(part) for node in calls if isinstance(node.func, ast.Attribute) and node.func.attr == "join"
+                       and isinstance(node.func.value, ast.Constant) for part in node.args}
+            inside |= {id(part) for node in plain_calls if node.func.id == "reversed" for part in node.args
+                       if isinstance(part, ast.Call) and part.func.id == "range"}
             for node in ast.walk(tree):
                 if isinstance(node, ast.Name) and node.id in BUILTINS - {"ValueError", "property", "classmethod"}:
                     self.assertIn(id(node), called | held, (stem, node.id))
@@ -217,6 +231,37 @@ class FormTest(unittest.TestCase):
                 self.assertIn(node.exc.func.id, errors, stem)
                 self.assertIsNone(node.cause)
 
+    def test_sets_are_sorted_or_counted_at_once(self):
+        for stem, tree in self.trees.items():
+            calls = [node for node in ast.walk(tree) if isinstance(node, ast.Call) and isinstance(node.func, ast.Name)]
+            inside = {id(part) for node in calls if node.func.id in ("sorted", "len") for part in node.args}
+            for node in ast.walk(tree):
+                if isinstance(node, ast.SetComp):
+                    self.assertIn(id(node), inside, stem)
+
+    def test_only_own_errors_are_caught_and_a_finally_only_assigns(self):
+        errors = {node.name for node in self.trees["errors"].body if isinstance(node, ast.ClassDef)} - {"LaneError"}
+        for stem, node in self.nodes:
+            if isinstance(node, ast.ExceptHandler):
+                names = [row.id for row in ast.walk(node.type) if isinstance(row, ast.Name)]
+                self.assertTrue(names and set(names) <= errors, stem)
+                self.assertIsNone(node.name)
+            if isinstance(node, ast.Try):
+                for row in node.finalbody:
+                    self.assertIsInstance(row, ast.Assign)
+                    for part in ast.walk(row):
+                        self.assertIsInstance(part, (ast.Assign, ast.Tuple, ast.Name, ast.Attribute, ast.expr_context))
+
+    def test_f_strings_stand_on_one_line_and_have_no_strings_within(self):
+        for stem, node in self.nodes:
+            if isinstance(node, ast.JoinedStr):
+                self.assertEqual(node.lineno, node.end_lineno, stem)
+                for part in node.values:
+                    if isinstance(part, ast.FormattedValue):
+                        self.assertEqual((part.conversion, part.format_spec), (-1, None))
+                        inner = [row.value for row in ast.walk(part.value) if isinstance(row, ast.Constant)]
+                        self.assertFalse([row for row in inner if isinstance(row, str)])
+
     def test_words_and_strings(self):
         for path in files():
             tree = self.trees[path.stem]
@@ -225,6 +270,7 @@ class FormTest(unittest.TestCase):
                 if isinstance(node, ast.Constant) and isinstance(node.value, str):
                     self.assertNotIn("%", node.value)
                     self.assertNotIn("\\", node.value)
+                    self.assertFalse(node.value.endswith(("._", ".__")) or node.value.startswith("__"))
                     if id(node) not in docs:
                         self.assertNotRegex(node.value, BARRED_WORDS)
             for name in stored_names(tree):

@@ -35,6 +35,27 @@ FUNCTIONS = {
     "faults": {"faults": "(system, *, most=2000)"},
     "taken": {"never_taken": "(system, *, most=2000)"},
     "bounds": {"safe_bounds": "(names, server, kinds, greatest, *, most=2000)"},
+    "rows": {"is_row": "(lanes, thing)", "row_of": "(system, steps)", "client_of": "(row)"},
+    "following": {
+        "follows": "(lanes, server, row)", "following": "(lanes, server, row)",
+        "standings_behind": "(lanes, server, row)",
+    },
+    "tables": {
+        "parting": "(lanes, one, other, *, most=300)", "alike": "(lanes, one, other, *, most=300)",
+        "table": "(lanes, one, other, *, most=300)", "is_table": "(lanes, one, other, thing)",
+    },
+    "comings": {"comings": "(system, crowd, *, most=2000)"},
+    "telling": {"teller": "(lanes, one, other, *, most=300)"},
+    "unseen": {
+        "mode_matters": "(lanes, server, place, *, most=300)",
+        "order_matters": "(lanes, server, place, index, *, most=300)",
+        "arm_matters": "(lanes, server, place, index, *, most=300)", "lean": "(lanes, server, *, most=300)",
+    },
+    "notation": {
+        "show_lanes": "(lanes)", "show_program": "(program)", "show_row": "(row)", "show_standing": "(standing)",
+        "show_deed": "(deed)", "read_lanes": "(text)", "read_program": "(text)", "read_row": "(text)",
+        "read_deed": "(text)",
+    },
 }
 
 CLASSES = {
@@ -61,6 +82,13 @@ CLASSES = {
         "rank": "(self, standing)", "way": "(self, standing)", "__len__": None, "__contains__": None,
         "last": "property",
     }),
+    "book": ("Book", {
+        "__init__": "(self, system)", "do": "(self, deed)", "back": "(self)", "again": "(self)",
+        "until": "(self, many)", "copied": "(self)", "trial": "(self, act)", "log": "(self)", "steps": "(self)",
+        "way": "(self, wished, *, most=2000)", "sticks": "(self, *, most=2000)", "__eq__": None, "__len__": None,
+        "system": "property", "standing": "property",
+    }),
+    "desk": ("Desk", {"__init__": "(self, system)", "say": "(self, line)", "__call__": "(self, line)"}),
 }
 
 ERRORS = {
@@ -105,6 +133,10 @@ class InterfaceTest(unittest.TestCase):
     def test_level(self):
         from openlanes.lanes import Lanes
         self.assertEqual(str(inspect.signature(Lanes.level)), "(names, bound)")
+
+    def test_the_class_value_of_books(self):
+        from openlanes.book import Book
+        self.assertEqual(vars(Book)["MOST"], 200)
 
     def test_errors(self):
         nodes = defined("errors", ast.ClassDef)
