@@ -4,7 +4,6 @@ from openlanes.book import Book
 from openlanes.errors import Full, NoCommand, NoKind, NoSeat, NoText, Nothing, Refused, TooMany, Wrong
 from openlanes.notation import read_deed, read_kind, read_number, read_parts, show_deed, show_number, show_standing
 from openlanes.stuck import stuck
-from openlanes.systems import System
 from openlanes.together import together
 
 LIMIT = 3
@@ -82,8 +81,6 @@ class Desk:
     """A Book of a system, to which one speaks in lines."""
 
     def __init__(self, system):
-        if not isinstance(system, System):
-            raise Wrong(0)
         self._book = Book(system)
 
     def __call__(self, line):

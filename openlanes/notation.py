@@ -3,7 +3,7 @@
 from openlanes.errors import NoPlace, NoText, TwoElse
 from openlanes.kinds import is_mode, is_name, is_word
 from openlanes.lanes import Lanes
-from openlanes.programs import Program, is_else
+from openlanes.programs import Program
 from openlanes.rows import is_ascending
 
 DIGITS = "0123456789"

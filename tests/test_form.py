@@ -144,6 +144,11 @@ class FormTest(unittest.TestCase):
             self.assertTrue(free, needs)
             needs = {stem: needs[stem] - set(free) for stem in needs if stem not in free}
 
+    def test_each_import_is_used(self):
+        for stem, tree in self.trees.items():
+            loads = {node.id for node in names_in(tree) if isinstance(node.ctx, ast.Load)}
+            self.assertEqual(set(imported(tree)) - loads, set(), stem)
+
     def test_only_some_parts_of_the_language(self):
         for stem, node in self.nodes:
             self.assertIsInstance(node, NODES, stem)

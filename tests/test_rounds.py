@@ -9,7 +9,7 @@ from openlanes.rounds import is_round, round_from, starving
 from openlanes.ways import bar, can_come, way
 from tests.byhand import Model, is_over, lowest, some_lively_model, some_model, some_standing
 from tests.helpers import NEW, STRANGE, check_error, check_most, deep, greatest
-from tests.samples import JOBS, PAIRS, WAITING, jobs
+from tests.samples import JOBS, WAITING
 
 # The server takes what comes on one of two lanes; the arms 1 and 2 of its place 0 are equal.
 CHOOSING = Model(

@@ -13,7 +13,7 @@ from openlanes.systems import System
 from openlanes.ways import bar, can_come, way
 from tests.byhand import Model, is_over, some_model
 from tests.helpers import NEW, STRANGE, check_error, check_most, greatest
-from tests.samples import ALONE, JOBS, PAIRS, WAITING, jobs
+from tests.samples import ALONE, JOBS, WAITING, jobs
 
 # The document's example: nobody sends a job.
 PLAIN = Model(

@@ -230,6 +230,19 @@ class IsTableTest(unittest.TestCase):
             self.assertIs(is_table(LANES, LATE, LATE, [thing]), False, repr(thing))
             self.assertIs(is_table(LANES, LATE, LATE, [thing, *found]), False, repr(thing))
 
+    def test_standings_not_ascending_or_twice(self):
+        found = table(LANES, LATE, LATE)
+        longer = [pair for pair in found if len(pair[1]) > 1]
+        self.assertTrue(longer)
+        for pair in found:
+            standing, some = pair
+            for standings in (some[::-1], some[1:] + some[:1], some + some[-1:], some[:1] + some, some * 2):
+                if standings == some:
+                    continue
+                other = (standing, standings)
+                for row in ([*found, other], [other, *found], [other if one == pair else one for one in found]):
+                    self.assertIs(is_table(LANES, LATE, LATE, row), False)
+
     def test_any_values(self):
         found = table(LANES, LATE, LATE)
         for thing in [*STRANGE, tuple(found), {pair: 1 for pair in found}, set(found), found[0], deep(29), "", 0, [[]],
